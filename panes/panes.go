@@ -1,0 +1,31 @@
+// Package panes: views of a table, each row beside the rows around it: see DOC.md.
+package panes
+
+import (
+	"panes/api"
+	"panes/queries"
+)
+
+// View is a table with a query over it.
+type View struct{}
+
+// Plan tells a query in its plain form (P3).
+func Plan(query string) (string, api.Errno, int) {
+	q, e, at := queries.Read(query)
+	if e != api.OK {
+		return "", e, at
+	}
+	return q.Plain(), api.OK, 0
+}
+
+// New makes a view of an empty table (P4).
+func New(query string) (*View, api.Errno, int) { return nil, api.OK, 0 }
+
+// Apply changes the table, and tells what changes in the view (P5, P6).
+func (v *View) Apply(batch []api.Change) ([]api.Out, api.Errno, int) { return nil, api.OK, 0 }
+
+// Rows tells the view (P7).
+func (v *View) Rows() []api.Out { return nil }
+
+// Table tells the table (P7).
+func (v *View) Table() []api.Change { return nil }
