@@ -4,10 +4,14 @@ package panes
 import (
 	"panes/api"
 	"panes/queries"
+	"panes/tables"
 )
 
 // View is a table with a query over it.
-type View struct{}
+type View struct {
+	query queries.Query
+	table tables.Table
+}
 
 // Plan tells a query in its plain form (P3).
 func Plan(query string) (string, api.Errno, int) {
@@ -19,13 +23,26 @@ func Plan(query string) (string, api.Errno, int) {
 }
 
 // New makes a view of an empty table (P4).
-func New(query string) (*View, api.Errno, int) { return nil, api.OK, 0 }
+func New(query string) (*View, api.Errno, int) {
+	q, e, at := queries.Read(query)
+	if e != api.OK {
+		return nil, e, at
+	}
+	return &View{query: q}, api.OK, 0
+}
 
 // Apply changes the table, and tells what changes in the view (P5, P6).
-func (v *View) Apply(batch []api.Change) ([]api.Out, api.Errno, int) { return nil, api.OK, 0 }
+func (v *View) Apply(batch []api.Change) ([]api.Out, api.Errno, int) {
+	after, e, at := v.table.After(batch)
+	if e != api.OK {
+		return nil, e, at
+	}
+	v.table = after
+	return nil, api.OK, 0
+}
 
 // Rows tells the view (P7).
 func (v *View) Rows() []api.Out { return nil }
 
 // Table tells the table (P7).
-func (v *View) Table() []api.Change { return nil }
+func (v *View) Table() []api.Change { return v.table.List() }
