@@ -3,6 +3,8 @@ package panes
 
 import (
 	"panes/api"
+	"panes/lines"
+	"panes/outs"
 	"panes/queries"
 	"panes/tables"
 )
@@ -37,12 +39,28 @@ func (v *View) Apply(batch []api.Change) ([]api.Out, api.Errno, int) {
 	if e != api.OK {
 		return nil, e, at
 	}
+	more := v.shown(after)
+	fewer := v.shown(v.table)
 	v.table = after
-	return nil, api.OK, 0
+	var told outs.Sums
+	told.Add(more)
+	told.Take(fewer)
+	return told.List(), api.OK, 0
 }
 
 // Rows tells the view (P7).
-func (v *View) Rows() []api.Out { return nil }
+func (v *View) Rows() []api.Out {
+	list := v.shown(v.table)
+	var told outs.Sums
+	told.Add(list)
+	return told.List()
+}
 
 // Table tells the table (P7).
 func (v *View) Table() []api.Change { return v.table.List() }
+
+// shown tells an out row for each copy of a table that the query shows.
+func (v *View) shown(t tables.Table) []api.Out {
+	list := t.List()
+	return lines.Outs(v.query, list)
+}

@@ -45,15 +45,16 @@ func wantMade(t *testing.T, v *panes.View, batch ...api.Change) {
 	}
 }
 
-// wantRefused sees to it that the table stays as it was, too.
+// wantRefused sees to it that the table and the view stay as they were, too.
 func wantRefused(t *testing.T, v *panes.View, batch []api.Change, e api.Errno, at int) {
 	t.Helper()
-	ahead := v.Table()
+	ahead, rows := v.Table(), v.Rows()
 	outs, gotE, gotAt := v.Apply(batch)
 	if len(outs) != 0 || gotE != e || gotAt != at {
 		t.Errorf("Apply(%v) = %v, %d, %d, want none, %d, %d", batch, outs, gotE, gotAt, e, at)
 	}
 	wantTable(t, v, ahead...)
+	wantRows(t, v, rows...)
 }
 
 // spoil writes into a list and into its spare room.

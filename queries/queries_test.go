@@ -66,3 +66,10 @@ func TestReadWrong(t *testing.T) {
 		}
 	}
 }
+
+func TestColOf(t *testing.T) {
+	r := api.Row{P: 7, K: -8, V: 9}
+	if ColP.Of(r) != 7 || ColK.Of(r) != -8 || ColV.Of(r) != 9 {
+		t.Errorf("Of(%v) = %d, %d, %d", r, ColP.Of(r), ColK.Of(r), ColV.Of(r))
+	}
+}

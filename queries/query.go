@@ -23,6 +23,17 @@ const (
 	ColV
 )
 
+// Of tells the column of a row.
+func (c Col) Of(r api.Row) int {
+	switch c {
+	case ColP:
+		return r.P
+	case ColK:
+		return r.K
+	}
+	return r.V
+}
+
 // Key is a column by which a line is ordered.
 type Key struct {
 	Col  Col

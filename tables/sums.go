@@ -1,6 +1,9 @@
 package tables
 
-import "panes/api"
+import (
+	"panes/api"
+	"panes/rows"
+)
 
 // sums adds changes up row by row. Its list has each row once, in the order of
 // the rows; on the way to a table a number may be 0 or below.
@@ -33,7 +36,7 @@ func (s *sums) of(r api.Row) int {
 // place tells how many rows of the list come ahead of a row.
 func (s *sums) place(r api.Row) int {
 	at := 0
-	for at < len(s.list) && isAhead(s.list[at].Row, r) {
+	for at < len(s.list) && rows.IsAhead(s.list[at].Row, r) {
 		at++
 	}
 	return at
@@ -56,14 +59,4 @@ func (s *sums) table() Table {
 		}
 	}
 	return t
-}
-
-func isAhead(a, b api.Row) bool {
-	if a.P != b.P {
-		return a.P < b.P
-	}
-	if a.K != b.K {
-		return a.K < b.K
-	}
-	return a.V < b.V
 }
